@@ -1,0 +1,1 @@
+"""Byteround: a tool chain of bytes, round and round."""
