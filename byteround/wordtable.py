@@ -70,6 +70,12 @@ def field_of(name):
     return FIELDS[field]
 
 
+def width_of(name):
+    """How many bytes the named word has."""
+    many, _, _ = field_of(name)
+    return 1 + many
+
+
 def hold_form(name):
     """The form of the hold at the named word's field, None of a word that has no hold."""
     _, _, field = WORDS[name]

@@ -11,6 +11,11 @@ FUNCTIONS = {
     "words": {
         "is_word": "(thing)", "bytes_of_word": "(word)", "word_at": "(row, *, at=0)", "words_of": "(row)",
         "show_word": "(word)", "read_word": "(text)"},
+    "machine": {"run": "(image, inputs=(), *, base=16, most=1000)"},
+    "texts": {"need_text": "(text)"},
+    "assembling": {
+        "assemble": "(text)", "rounds": "(text)", "shows_rounds": "(text, thing)", "made_by": "(text)"},
+    "images": {"placed": "(image, base)", "found_at": "(image, thing)"},
 }
 
 CLASSES = {
@@ -20,7 +25,23 @@ CLASSES = {
         "Part": ("(name, *, stretches=(), told=(), weak=(), soft=())", ("__eq__",)),
         "Unit": ("(parts)", ("__eq__", "__len__")),
     },
+    "machine": {
+        "Machine": ("(image, inputs=(), *, base=16)", (
+            "go_on", "next_place", "registers", "pile", "outputs", "outcome", "byte_at", "held_at", "tally")),
+    },
+    "images": {
+        "Image": ("(data, stretches, holds, entry, *, notes=None)", ("__eq__", "__len__")),
+    },
 }
+
+METHODS = {
+    ("machine", "Machine"): {
+        "go_on": "(self, *, many=1)", "next_place": "(self)", "registers": "(self)", "pile": "(self)",
+        "outputs": "(self)", "outcome": "(self)", "byte_at": "(self, place)", "held_at": "(self, place)",
+        "tally": "(self)"},
+}
+
+VALUES = {"machine": {"PILE": 32, "LEAST_BASE": 16}}
 
 
 class Interface(unittest.TestCase):
@@ -42,6 +63,19 @@ class Interface(unittest.TestCase):
                 self.assertEqual(str(inspect.signature(thing)), signature, name)
                 for method in methods:
                     self.assertIn(method, vars(thing), (name, method))
+
+    def test_methods(self):
+        for (module_name, class_name), methods in METHODS.items():
+            thing = getattr(importlib.import_module(f"byteround.{module_name}"), class_name)
+            for name, signature in methods.items():
+                self.assertEqual(str(inspect.signature(vars(thing)[name])), signature, name)
+
+    def test_values(self):
+        for module_name, values in VALUES.items():
+            module = importlib.import_module(f"byteround.{module_name}")
+            for name, worth in values.items():
+                self.assertEqual(getattr(module, name), worth)
+                self.assertIs(type(getattr(module, name)), int)
 
 
 if __name__ == "__main__":
