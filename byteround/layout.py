@@ -34,6 +34,12 @@ def place_at(stretches, spot):
     return (number, spot - stretches[number][0])
 
 
+def bytes_laid(data, stretch):
+    """The bytes of the stretch, of a room none."""
+    begin, size, kind, _ = stretch
+    return () if kind == "room" else data[begin:begin + size]
+
+
 def words_laid(data, stretches):
     """By its spot each word of the stretches of code, or NoWord."""
     words = {}

@@ -16,6 +16,24 @@ FUNCTIONS = {
     "assembling": {
         "assemble": "(text)", "rounds": "(text)", "shows_rounds": "(text, thing)", "made_by": "(text)"},
     "images": {"placed": "(image, base)", "found_at": "(image, thing)"},
+    "dumping": {"dump": "(unit, *, wide=16)"},
+    "unitbytes": {
+        "unit_bytes": "(unit, *, edition=None)", "moved": "(thing, edition)", "read_unit": "(thing)",
+        "edition_of": "(thing)", "least_edition": "(unit)", "lowered": "(unit, edition)"},
+    "shelves": {
+        "shelf_bytes": "(units)", "read_shelf": "(thing)", "taken": "(units, entry, *, shelves, keep=())",
+        "is_taken": "(units, entry, thing, *, shelves, keep=())", "laid": "(units, entry, *, shelves=(), keep=())"},
+    "names": {"meaning": "(unit, name, *, part=None)"},
+    "linking": {
+        "join": "(units)", "link": "(units, entry, *, shelves=(), keep=())",
+        "reached": "(units, entry, *, shelves=(), keep=())"},
+    "linklooks": {
+        "shows_reached": "(units, entry, thing, *, shelves=(), keep=())",
+        "is_linked": "(unit, entry, thing, *, keep=())"},
+    "apart": {"taken_apart": "(image)"},
+    "matching": {"same_program": "(one, other)"},
+    "imagebytes": {
+        "image_bytes": "(image, *, edition=None)", "read_image": "(thing)", "least_image_edition": "(image)"},
 }
 
 CLASSES = {
@@ -41,7 +59,7 @@ METHODS = {
         "tally": "(self)"},
 }
 
-VALUES = {"machine": {"PILE": 32, "LEAST_BASE": 16}}
+VALUES = {"machine": {"PILE": 32, "LEAST_BASE": 16}, "dumping": {"WIDE": 16}, "linking": {"BIGGEST": 40000}}
 
 
 class Interface(unittest.TestCase):

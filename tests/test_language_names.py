@@ -140,6 +140,8 @@ class Calls(unittest.TestCase):
                 is_call = isinstance(node, ast.Call) and isinstance(node.func, ast.Name) and node.func.id == "set"
                 if is_call or isinstance(node, (ast.Set, ast.SetComp)):
                     parent = above[id(node)]
+                    while isinstance(parent, ast.BinOp):
+                        parent = above[id(parent)]
                     if isinstance(parent, ast.Call):
                         self.assertIn(parent.func.id, ("len", "sorted"), (name, node.lineno))
                     else:
