@@ -44,7 +44,7 @@ class Pieces:
         """The name and the plus by which a field leads to the place."""
         if place is None:
             return (NOWHERE, 0)
-        if place in self.labels and self.is_code(place):
+        if self.is_code(place):
             return (self.labels[place], 0)
         # In data a label can't stand at each byte: its stretch's first one leads there.
         return (self.labels[(place[0], 0)], place[1])

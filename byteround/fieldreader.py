@@ -2,12 +2,9 @@
 
 from byteround.bytesrows import bytes_of, is_row, long_at, number_of, sum_of
 from byteround.errors import NoBytes
-from byteround.fieldwriter import FIRST_LETTER, WIDEST
+from byteround.fieldwriter import FIRST_LETTER, SHORT_NAME, WIDEST
 from byteround.kinds import LETTERS, LONGEST_NAME, copied
 from byteround.stretchrules import GREATEST_SIZE
-
-# By the edition how many letters a name may have.
-MOST_LETTERS = {1: 4, 2: 8, 3: 8}
 
 
 class FieldReader:
@@ -80,7 +77,7 @@ class FieldReader:
 
     def name_field(self):
         if self.edition < WIDEST:
-            return self.spelled_field(MOST_LETTERS[self.edition])
+            return self.spelled_field(SHORT_NAME if self.edition == 1 else LONGEST_NAME)
         begin = self.at
         number = self.number_field()
         if number >= len(self.table):

@@ -4,6 +4,11 @@ from byteround.bytesrows import bytes_of, long_of, sum_of
 from byteround.kinds import LETTERS, copied
 
 FIRST_LETTER = 97
+
+# How many letters a name may have in edition 1.
+SHORT_NAME = 4
+
+# The edition with long numbers, a table and a sum.
 WIDEST = 3
 
 

@@ -17,7 +17,7 @@ class Forms:
         for part in draft.parts:
             for number, stretch in enumerate(part.stretches):
                 for row in stretch.rows:
-                    if row.kind == "code" and is_long_at_first(row, part, number):
+                    if is_long_at_first(row, part, number):
                         self.longs[row.number] = True
         self.lengthen()
 

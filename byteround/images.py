@@ -43,7 +43,7 @@ def placed(image, base):
 
 def found_at(image, thing):
     """The base at which the thing is the image placed, or None."""
-    if not is_row(thing) or len(thing) != len(image.data):
+    if not is_row(thing):
         return None
     base = base_told(image, thing)
     if not is_base(base, len(image)) or placed(image, base) != thing:

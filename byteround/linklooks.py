@@ -1,7 +1,6 @@
 """Looks at what is told of links: at lists of kept stretches, at images."""
 
 from byteround.errors import Beyond, NoEntry, NotCode, TooGreat, Twice, Untold
-from byteround.images import Image
 from byteround.kinds import is_tuple_of, is_whole
 from byteround.linking import link
 from byteround.linkplan import LinkPlan
@@ -59,4 +58,4 @@ def is_linked(unit, entry, thing, *, keep=()):
         image = link([unit], entry, keep=keep)
     except (Twice, NoEntry, Untold, NotCode, Beyond, TooGreat):
         return False
-    return isinstance(thing, Image) and thing == image
+    return image == thing

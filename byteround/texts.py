@@ -99,7 +99,7 @@ def word_faults(part, forms):
     for number, stretch in enumerate(part.stretches):
         offsets = forms.offsets_in(stretch)
         for row in stretch.rows:
-            if row.kind != "code" or name_held(row) is None:
+            if row.kind != "code":
                 continue
             if not forms.reaches(row, part, number, offsets):
                 faults.append((row.number, 0))

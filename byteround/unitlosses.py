@@ -1,9 +1,9 @@
 """What of a unit an edition can't bear, and what it loses where it is lowered."""
 
+from byteround.fieldwriter import SHORT_NAME
 from byteround.things import Part, Stretch
 
 NO_LINES = ((0, 0),)
-SHORT_NAME = 4
 SMALL_NUMBER = 255
 
 

@@ -160,6 +160,11 @@ class Editions(Case):
         self.assertEqual(great.stretches[-1][0], 64001)
         self.assertEqual(least_image_edition(great), 2)
         self.back(great)
+        for more, least in ((0, 2), (1, 3)):
+            edge = image_of(("code", 1, (0,)), *rooms[:16], ("room", 1, 1534 + more), ("room", 1, 5))
+            self.assertEqual(edge.stretches[-1][0], 65535 + more)
+            self.assertEqual(least_image_edition(edge), least)
+            self.back(edge)
         greater = image_of(("code", 1, (0,)), *rooms, ("room", 1, 1))
         self.assertEqual(greater.stretches[-1][0], 68001)
         self.not_borne(2, "number", greater)

@@ -134,6 +134,10 @@ class Stretches(Case):
         self.refused("entry", (7,), ((0, 1, "data", 1), (1, 1, "room", 1)))
         self.refused("stretches", (0,), ((0, 1, "room", 1),))
 
+    def test_no_stretches(self):
+        self.refused("stretches", (), ())
+        self.refused("stretches", (), [])
+
     def test_order(self):
         self.refused("stretches", (0,), ((0, 3, "room", 1), (3, 1, "code", 1)))
         self.refused("stretches", (0, 0, 0, 0), ((0, 3, "room", 1), (3, 1, "code", 1)))
@@ -356,6 +360,17 @@ class EntriesAndNotes(Case):
         for labels in ([("a", 0)], (["a", 0],), (("a", 1), ("b", 0)), (("b", 0), ("a", 0)), (("a", 0), ("a", 1)),
                        (("a", True),), (("A", 0),), (("a", 0, 0),), (("abcdefghi", 0),)):
             self.not_noted(2, labels, ((0, 0),))
+
+    def test_labels_and_lines_of_code_that_begins_later(self):
+        specs = (("data", 1, (1, 2, 3)), ("code", 4, (0x14, 5, 0, 0x18, 5, 5)))
+        data, stretches = laid(*specs)
+        for at in range(-5, 12):
+            for labels, lines in (((("a", at),), ((0, 0),)), ((), ((0, 0), (at, 5)))):
+                notes = ((0, "a", "a", (), ((0, 0),)), (0, "a", "a", labels, lines))
+                if at in (2, 3) or at == 0 and labels:
+                    Image(data, stretches, (), 4, notes=notes)
+                else:
+                    self.refused("notes", data, stretches, (), 4, notes)
 
     def test_lines(self):
         for number, good in ((0, (2, 5, 6)), (1, (1, 2, 4)), (2, tuple(range(1, 10)))):

@@ -307,6 +307,9 @@ class Fields1And2(Case):
         eight = (85, 2, 8) + (97,) * 8 + (0,) * 8
         self.assertEqual(read_unit(eight), Unit([Part("aaaaaaaa")]))
         self.refused(2, (85, 2, 9) + (97,) * 9 + (0,) * 8)
+        nine = (85, 2, 1, 97, 0, 1, 9) + (97,) * 9 + (2, 1, 0, 5) + (0,) * 4 + (0, 1, 0, 0, 0, 0) + (0,) * 6
+        self.refused(6, nine)
+        self.assertEqual(read_unit(nine[:6] + (8,) + nine[8:]).parts[0].stretches[0].name, "a" * 8)
 
     def test_the_end_goes_ahead_of_the_field(self):
         self.refused(5, (85, 1, 9, 97, 97))
