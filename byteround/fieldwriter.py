@@ -66,7 +66,11 @@ class FieldWriter:
         """The sign, the edition, in edition 3 the table."""
         if self.edition < WIDEST:
             return (sign, self.edition)
-        return (sign, self.edition) + self.listed([spelled(name) for name in self.table])
+        return (sign, self.edition) + self.table_field()
+
+    def table_field(self):
+        """All names of the table."""
+        return self.listed([spelled(name) for name in self.table])
 
     def whole(self, row):
         """All fields, in edition 3 with their sum."""

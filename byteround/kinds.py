@@ -41,6 +41,14 @@ def are_unlike(names):
     return len(set(names)) == len(names)
 
 
+def many_alike(one, other):
+    """With how many equal things both begin."""
+    many = 0
+    while many < min(len(one), len(other)) and one[many] == other[many]:
+        many += 1
+    return many
+
+
 def copied(thing):
     """The same thing, of which no list or dict is shared, in exactly the built-in kinds."""
     if isinstance(thing, bool):

@@ -1,6 +1,9 @@
 """Things of every kind, to be handed in where the document says "of anything"."""
 
 from byteround.errors import NoHex
+from byteround.images import Image
+from byteround.patches import Patch
+from byteround.stripping import Chart
 from byteround.things import Part, Stretch, Unit
 
 
@@ -33,6 +36,7 @@ def anything():
         (), (0,), (1, 2), ("a", 1), (None,), ((0, 0),), ((((((((((),),),),),),),),),),
         [], [0], ["a"], [("a", 0)], [[]], [None], {}, {"a": 1}, {0: [1]}, {(0, 0): None}, {True: {}},
         a_stretch(), part, Unit((part,)), NoHex(3), [a_stretch()], (part, None),
+        Image((0,), ((0, 1, "code", 1),), (), 0), Chart(5, None), Patch(3, ((1, (), (2,)),)), {"a": Patch(0)},
     ]
 
 
