@@ -14,7 +14,11 @@ from byteround.wordtable import field_of, hold_form, registers_of
 
 def assemble(text):
     """The unit of a text, or Wrong."""
-    forms = read_forms(text)
+    return unit_of(read_forms(text))
+
+
+def unit_of(forms):
+    """The unit that the text of these forms makes."""
     return Unit([part_of(part, forms) for part in forms.draft.parts])
 
 
@@ -84,10 +88,10 @@ def data_of(stretch, forms):
     """The bytes of the draft's stretch."""
     if stretch.kind == "room":
         return ()
-    return tuple([byte for row in stretch.rows for byte in bytes_of_row(row, forms)])
+    return tuple([byte for row in stretch.rows for byte in bytes_of_text_row(row, forms)])
 
 
-def bytes_of_row(row, forms):
+def bytes_of_text_row(row, forms):
     """The bytes that the row makes, held fields 0."""
     first, *texts = row.words
     if row.kind == "code":

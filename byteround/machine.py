@@ -114,7 +114,11 @@ def memory_of(image):
 
 def run(image, inputs=(), *, base=LEAST_BASE, most=1000):
     """A run of at most so many steps: (outputs, how, where, steps)."""
-    machine = Machine(image, inputs, base=base)
+    return run_through(Machine(image, inputs, base=base), most)
+
+
+def run_through(machine, most):
+    """What a Machine or a Plain comes to by at most so many steps: (outputs, how, where, steps)."""
     steps = machine.go_on(many=most)
     ending = machine.outcome()
     how, where = ("going", None) if ending is None else ending

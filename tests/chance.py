@@ -1,9 +1,10 @@
-"""Units and images put together by chance, the same ones for the same seed."""
+"""Units, images and texts of whole programs put together by chance, the same ones for the same seed."""
 
 import random
 
 from byteround.assembling import assemble
-from byteround.errors import Wrong
+from byteround.errors import Beyond, Wrong
+from byteround.linking import link
 from byteround.things import Unit
 
 CODE = (
@@ -84,3 +85,75 @@ def chance_units(seed, many):
         parts = [chance_unit(chance, k, 3).parts[0] for k in range(chance.choice((1, 1, 2, 3)))]
         units.append(Unit(parts))
     return units
+
+
+STEADY = (
+    "out a", "out b", "out d", "in a", "in b", "copy b a", "add a b", "less a c", "times b b", "same d", "move q p", "none d q",
+    "set a 1", "set b 2", "set.long d 0", "push a", "pop c", "walk p b", "load a p", "store b q", "take q p", "keep p q", "back",
+    "goat q", "callat p")
+
+
+def program_rows(chance, codes, others):
+    """Some rows of code that lead, if to any place, to these."""
+    plus = chance.choice(("", "", "+1", "+2"))
+    one, other, code = chance.choice(others), chance.choice(others), chance.choice(codes)
+    return chance.choice((
+        [f"point p {one}{plus}", "load a p", "out a"], [f"point q {one}{plus}", "store b q"], [f"point p {one}", "take q p", "none d q"],
+        [f"point p {one}", f"point q {other}", "keep q p", "take q p", "same d"], [f"point q {code}", "callat q"],
+        [f"point q {code}", f"point p {one}", "keep q p"], [f"point q {code}", f"if b {code}", "goat q"], [f"point q {one}", "turn q c"],
+        [f"point p {one}", "set c 1", "walk p c", "load b p", "out b"], ["push b", "set b 7", "pop b"], ["point q zz", "none a q"],
+        [f"call {code}"], [f"if d {code}", "set d 1"], [f"go {code}"], [f"set a {chance.randrange(400)}", "out a"], ["go zz"],
+        [f"row {chance.randrange(4)}"], ["in a", "add b a", "out b"], *[[chance.choice(STEADY)] for _ in range(5)]))
+
+
+def program_bytes(chance, names):
+    """A row of data that leads, if to anything, to one of these."""
+    return chance.choice((
+        f"bytes {chance.randrange(256)} {chance.randrange(256)}", "two 300", "zeros 2", f"held {chance.choice(names)}", "held zz",
+        f"held {chance.choice(names)}", f"row {chance.randrange(4)}"))
+
+
+def stretch_rows(chance, head, labels, items, last):
+    for label in labels:
+        items.insert(chance.randrange(len(items) + 1), label + ":")
+    return [f"{head} {chance.choice(STEPS)}", *items, last]
+
+
+def part_text(chance, number, many):
+    """A text of one part of so many: two stretches of code, two of data, a room; each part's labels are known to all."""
+    def named(*kinds, own=False):
+        return [kind + "abcdef"[k] + sign for k in range(many) if k == number or not own for kind in kinds for sign in "xy"]
+    codes, others, names = named("c"), named("d", "r"), named("c", "d", "r")
+    mine = iter("abcde")
+    rows = []
+    for sign in "xy":
+        items = [row for _ in range(chance.randrange(2, 9)) for row in program_rows(chance, codes, others)]
+        label = "c" + "abcdef"[number] + sign
+        rows += stretch_rows(chance, f"code s{next(mine)}", [label], items, chance.choice(("halt", "back", f"go {label}")))
+    for sign in "xy":
+        items = [program_bytes(chance, names) for _ in range(chance.randrange(1, 6))]
+        rows += stretch_rows(chance, f"data s{next(mine)}", ["d" + "abcdef"[number] + sign], items, "bytes 9 8 7")
+    items = [f"leave {chance.randrange(1, 5)}", f"row {chance.randrange(4)}"]
+    rows += stretch_rows(chance, f"room s{next(mine)}", ["r" + "abcdef"[number] + sign for sign in "xy"], items, "leave 3")
+    head = ["note " + "x" * chance.randrange(3), f"part p{'abcdef'[number]}"]
+    shorts = {row.split(" ")[-1] for row in rows if row.split(" ")[0] in ("go", "call", "if")}
+    for name in named("c", "d", "r", own=True):
+        head.append(("weak " if chance.random() < 0.2 and name not in shorts else "told ") + name)
+    if any(row.endswith(" zz") for row in rows):
+        head.append("soft zz")
+    return "\n".join(head + rows)
+
+
+def chance_programs(seed, many, parts=2):
+    """So many (texts, entry): texts of one part each, all of which link."""
+    chance = random.Random(seed)
+    found = []
+    while len(found) < many:
+        texts = [part_text(chance, number, parts) for number in range(parts)]
+        entry = f"c{'abcdef'[chance.randrange(parts)]}x"
+        try:
+            link([assemble(text) for text in texts], entry)
+        except Beyond:
+            continue
+        found.append((texts, entry))
+    return found

@@ -34,6 +34,17 @@ FUNCTIONS = {
     "matching": {"same_program": "(one, other)"},
     "imagebytes": {
         "image_bytes": "(image, *, edition=None)", "read_image": "(thing)", "least_image_edition": "(image)"},
+    "stripping": {
+        "stripped": "(image)", "with_notes": "(image, chart)", "chart_bytes": "(chart)", "read_chart": "(thing)"},
+    "leads": {
+        "leads": "(image, at)", "bytes_of_row": "(image, part, row)", "traced": "(unit, image, part, row)"},
+    "matchlooks": {"shows_same": "(one, other, thing)"},
+    "patches": {
+        "patch_between": "(one, other)", "turned_back": "(patch)", "chained": "(one, other)", "merged": "(one, other)",
+        "shifted": "(patch, over)", "fitted": "(patch, row)"},
+    "carrying": {"patched": "(image, patch)", "carried": "(patch, image, other)"},
+    "plainrun": {"play": "(texts, entry, inputs=(), *, most=1000)"},
+    "benchtexts": {"bench_text": "(bench)", "read_bench": "(text)"},
 }
 
 CLASSES = {
@@ -50,13 +61,32 @@ CLASSES = {
     "images": {
         "Image": ("(data, stretches, holds, entry, *, notes=None)", ("__eq__", "__len__")),
     },
+    "stripping": {"Chart": ("(total, notes)", ("__eq__",))},
+    "patches": {"Patch": ("(length, spots=())", ("__eq__", "__len__"))},
+    "plainrun": {
+        "Plain": ("(texts, entry, inputs=())", (
+            "go_on", "next_place", "registers", "pile", "outputs", "outcome", "byte_at", "held_at", "tally")),
+    },
+    "bench": {
+        "Bench": ("()", (
+            "do", "several", "undo", "redo", "remake", "remake_all", "names", "stale", "made_of", "makes", "kind_of", "thing_of",
+            "deed_of", "number_of", "__eq__")),
+    },
+    "desk": {"Desk": ("()", ("say",))},
 }
 
+RUN_METHODS = {
+    "go_on": "(self, *, many=1)", "next_place": "(self)", "registers": "(self)", "pile": "(self)", "outputs": "(self)",
+    "outcome": "(self)", "byte_at": "(self, place)", "held_at": "(self, place)", "tally": "(self)"}
+
 METHODS = {
-    ("machine", "Machine"): {
-        "go_on": "(self, *, many=1)", "next_place": "(self)", "registers": "(self)", "pile": "(self)",
-        "outputs": "(self)", "outcome": "(self)", "byte_at": "(self, place)", "held_at": "(self, place)",
-        "tally": "(self)"},
+    ("machine", "Machine"): RUN_METHODS,
+    ("plainrun", "Plain"): RUN_METHODS,
+    ("bench", "Bench"): {
+        "do": "(self, deed)", "several": "(self, deeds)", "undo": "(self)", "redo": "(self)", "remake": "(self, name)",
+        "remake_all": "(self)", "names": "(self)", "stale": "(self)", "made_of": "(self, name)", "makes": "(self, name)",
+        "kind_of": "(self, name)", "thing_of": "(self, name)", "deed_of": "(self, name)", "number_of": "(self, name)"},
+    ("desk", "Desk"): {"say": "(self, row)"},
 }
 
 VALUES = {"machine": {"PILE": 32, "LEAST_BASE": 16}, "dumping": {"WIDE": 16}, "linking": {"BIGGEST": 40000}}
