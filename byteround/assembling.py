@@ -92,7 +92,7 @@ def data_of(stretch, forms):
 
 
 def bytes_of_text_row(row, forms):
-    """The bytes that the row makes, held fields 0."""
+    """The bytes that the row makes, held fields and rooms 0."""
     first, *texts = row.words
     if row.kind == "code":
         return code_of_row(row, forms)

@@ -2,7 +2,7 @@
 
 from byteround.deeds import kind_of_thing, things_named
 from byteround.errors import Circle, NoThing, OtherKind
-from byteround.kinds import copied, is_name
+from byteround.kinds import is_name
 from byteround.making import made_by_deed
 
 
@@ -17,13 +17,10 @@ class Standing:
         self.sources = sources
 
     def __eq__(self, other):
-        if not isinstance(other, Standing) or self.kind != other.kind or self.thing != other.thing:
+        # Equal things are of one kind.
+        if not isinstance(other, Standing) or self.thing != other.thing or self.deed != other.deed:
             return False
-        return self.deed == other.deed and self.number == other.number and self.sources == other.sources
-
-    def is_equal_to(self, thing):
-        """Whether another thing is of this kind, and equal."""
-        return self.kind == kind_of_thing(thing) and self.thing == thing
+        return self.number == other.number and self.sources == other.sources
 
 
 class BenchState:
@@ -34,9 +31,9 @@ class BenchState:
         self.following = 0
 
     def __eq__(self, other):
-        if not isinstance(other, BenchState):
+        if not isinstance(other, BenchState) or self.following != other.following:
             return False
-        return self.standing == other.standing and self.following == other.following
+        return self.standing == other.standing
 
     def twin(self):
         """Another such state, to be changed by itself."""
@@ -73,11 +70,11 @@ class BenchState:
     def put_standing(self, deed, thing):
         """Puts the thing there that the deed has made."""
         number = self.number_for(deed[1], thing)
-        self.standing[deed[1]] = Standing(copied(thing), deed, number, self.sources_of(deed))
+        self.standing[deed[1]] = Standing(thing, deed, number, self.sources_of(deed))
 
     def number_for(self, name, thing):
         """The number of a thing of this name: that of an equal one in whose place it comes, else the next one."""
-        if name in self.standing and self.standing[name].is_equal_to(thing):
+        if name in self.standing and self.standing[name].thing == thing:
             return self.standing[name].number
         self.following += 1
         return self.following - 1

@@ -73,12 +73,9 @@ def do_rows(bench, rows, at):
 
 
 def deed_of_row(row):
-    """The deed that the row tells; or NoText, NoHex, NoBytes, NoPatch."""
+    """The deed that the row tells, None where it tells none; or NoText, NoHex, NoBytes, NoPatch."""
     words = row.split(" ", 3)
     if words[0] == "put" and len(words) == 4:
         _, name, kind, line = words
         return ("put", name, thing_of_line(line, kind))
-    deed = deed_told(row.split(" "))
-    if deed is None:
-        raise NoText(0)
-    return deed
+    return deed_told(row.split(" "))

@@ -41,16 +41,18 @@ class PlainProgram:
 
     def add_stretch(self, number, stretch, forms):
         """Adds a stretch of the part of this number."""
-        key = (number, name_of(stretch))
         if stretch.kind == "code":
             self.add_words(number, stretch)
-        elif stretch.kind == "room":
-            self.memory.lay(key, (0,) * forms.size_of(stretch))
         else:
-            self.memory.lay(key, [byte for row in stretch.rows for byte in bytes_of_text_row(row, forms)])
-            for row, at in placed_rows(stretch, forms):
-                if holds_at(row):
-                    self.memory.hold(key + (at,), self.target_of_row(row, number))
+            self.add_bytes(number, stretch, forms)
+
+    def add_bytes(self, number, stretch, forms):
+        """Adds the bytes of a stretch of data, or of a room, of the part of this number, and what its fields hold."""
+        key = (number, name_of(stretch))
+        self.memory.lay(key, [byte for row in stretch.rows for byte in bytes_of_text_row(row, forms)])
+        for row, at in placed_rows(stretch, forms):
+            if holds_at(row):
+                self.memory.hold(key + (at,), self.target_of_row(row, number))
 
     def add_words(self, number, stretch):
         """Adds the words of a stretch of code of the part of this number, and to which row each leads."""

@@ -90,7 +90,7 @@ def pair_of_line(line):
 
 
 def things_read(words):
-    """The things that the words tell, or NoText."""
+    """The things that the words tell, of brackets that are closed, or NoText."""
     open_rows = [[]]
     for word in words:
         if word in OPENINGS:
@@ -104,8 +104,6 @@ def things_read(words):
             open_rows[-1].append(tuple(row) if word == CLOSINGS[0] else row)
         else:
             open_rows[-1].append(leaf_read(word))
-    if len(open_rows) > 1:
-        raise NoText(0)
     return open_rows[0]
 
 

@@ -614,6 +614,15 @@ class UndoRedo(Case):
         with self.assertRaises(NothingDone):
             bench.redo()
         self.assertEqual(seen(bench), states[-1])
+        # To and fro, as often as asked.
+        for _ in range(3):
+            bench.undo()
+            bench.undo()
+            self.assertEqual(seen(bench), states[-3])
+            bench.redo()
+            self.assertEqual(seen(bench), states[-2])
+            bench.redo()
+            self.assertEqual(seen(bench), states[-1])
 
     def test_nothing_done(self):
         for function in (Bench().undo, Bench().redo, full().redo):
@@ -735,6 +744,14 @@ class Equal(Case):
         self.assertFalse(two == three)
         two.remake("u")
         self.assertTrue(two == three)
+        # The thing alone: the text of which it was made is gone.
+        five, six = (bench_of(("put", "t", one), ("assemble", "u", "t"), ("drop", "t")) for one in (MAIN, MORE))
+        self.assertEqual((five.deed_of("u"), five.number_of("u")), (six.deed_of("u"), six.number_of("u")))
+        self.assertFalse(five == six)
+        # The number alone.
+        five, six = bench_of(("put", "t", "a"), ("put", "u", "b")), bench_of(("put", "u", "b"), ("put", "t", "a"))
+        self.assertEqual((five.deed_of("u"), five.deed_of("t")), (six.deed_of("u"), six.deed_of("t")))
+        self.assertFalse(five == six)
         # The next number alone.
         four = bench_of(("put", "t", MAIN), ("put", "n", "a"), ("drop", "n"))
         self.assertFalse(four == bench_of(("put", "t", MAIN)))

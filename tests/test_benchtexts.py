@@ -202,9 +202,9 @@ class NoTexts(Case):
         for row in (
                 "put", "put n", "put n text", "put n other a", "put N text a", "put n row", "put n row ", "put n row 0", "put n row 0g", "put n row 0A",
                 "put n row 01  02", "put n row 01 02 ", "put n unit 00", "put n image -", "put n shelf 57", "put n patch", "put n patch ( 3 ( ) ) )",
-                "put n patch ( 3 ( )", "put n patch ( 3 )", "put n patch ( -1 ( ) )", "put n patch ( 3 [ ] )", "put n patch 3 ( )", "put n patch ( 03 ( ) )",
+                "put n patch ( 3 ( )", "put n patch ( 3 )", "put n patch ( -1 ( ) )", "put n patch ( 3 ( ) ) (", "put n patch ( 3 ( ) ) 5", "put n patch 5 (", "put n patch ( 3 [ ] )", "put n patch 3 ( )", "put n patch ( 03 ( ) )",
                 "put n chart ( 5 none", "put n chart ( 5 nothing )", "put n chart ( 5 ( ] )", "put n chart [ 5 none ]", "put n chart ( 5 none none )",
-                "put n chart ( - none )", "put n chart  ( 5 none )", "put n chart ( -0 none )", "put n chart " + "( " * 3000 + ") " * 3000,
+                "put n chart ( - none )", "put n chart  ( 5 none )", "put n chart ( -0 none )", "put n chart ( 5" + " (" * 3000 + " )" * 3000 + " )",
                 "put n chart " + "( " * 3000, "put n text \\", "put n text \\s", "put n text \\q", "several", "several 0", "several 00", "several -1", "several x",
                 "several 1", "several 2\nput n text a", "several 1 \nput n text a", "several 01\nput n text a", "several 1\nremake", "several 1\nundo",
                 "several 1\nseveral 1\nput n text a", "remake", "remake t", "remake zz", "remake t u", "remake ", "undo", "redo", "drop", "drop zz",
@@ -226,7 +226,8 @@ class NoTexts(Case):
 
     def test_the_row_is_told(self):
         good = bench_text(bench_of(("put", "t", "a"), ("put", "u", "b")))
-        for text, row in ((good + "\ndrop zz", 3), ("drop zz\n" + good, 1), (good + "\nput t text a", 3), (good + "\n", 3)):
+        for text, row in ((good + "\ndrop zz", 3), ("drop zz\n" + good, 1), (good + "\nput t text a", 3), (good + "\n", 3),
+                          ("put t text a\n" + good, 2)):
             with self.assertRaises(NoText) as caught:
                 read_bench(text)
             self.assertEqual(caught.exception, NoText(row))

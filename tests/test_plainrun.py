@@ -76,6 +76,10 @@ class Told(unittest.TestCase):
         self.assertEqual(play([MAIN, MORE.replace("point q g", "pop a")], "x"), ([], "sort", (1, 70), 1))
         self.assertEqual(play(Rows([MAIN, Text(MORE)]), Text("x"), Rows([Number(5)])), ([0], "halt", (0, 11), 6))
         self.assertTrue(is_exact(play(Rows([MAIN, Text(MORE)]), Text("x"), Rows([Number(5)]))))
+        told = play([text("part a", "told x", "code m 1", "x:", "in a", "out a", "halt")], "x", Rows([Number(5)]))
+        self.assertEqual(told, ([5], "halt", (0, 7), 3))
+        self.assertTrue(is_exact(told))
+        self.assertEqual(play([text("part a", "told x", "code m 1", "x:", "go x")], "x"), ([], "going", None, 1000))
 
     def test_no_steps(self):
         self.assertEqual(play([MAIN, MORE], "x", most=0), ([], "going", None, 0))
